@@ -1,0 +1,27 @@
+"""What kind of thing an argument is: integers, sequences, names and effects."""
+
+LETTERS = "abcdefghijklmnopqrstuvwxyz"
+DIGITS = "0123456789"
+LONGEST_NAME = 8
+MOST_EFFECTS = 4
+
+
+def is_integer(value):
+    # To Python True and False are integers as well; here they are none.
+    return isinstance(value, int) and not isinstance(value, bool)
+
+
+def is_sequence(value):
+    return isinstance(value, (list, tuple))
+
+
+def is_name(value):
+    if not isinstance(value, str) or not 1 <= len(value) <= LONGEST_NAME:
+        return False
+    return value[0] in LETTERS and all([char in LETTERS + DIGITS for char in value])
+
+
+def is_effects(value):
+    if not is_sequence(value) or not 1 <= len(value) <= MOST_EFFECTS:
+        return False
+    return all([is_name(item) for item in value]) and len(set(value)) == len(value)

@@ -1,0 +1,45 @@
+"""What the tests have in common."""
+
+import unittest
+
+from anymethod.errors import NoRatio
+from anymethod.questions import Question
+from anymethod.ratios import Ratio
+from anymethod.runs import Run
+
+# Things of other kinds than numbers, sequences and strings.
+STRANGE = (None, True, False, b"a", {}, {"a": 1}, range(1), NoRatio("top"), len, Ratio)
+NO_NUMBERS = STRANGE + ("", "1", "a", [], (), [1], (1, 2), Question(("a",), (1,)), Run(Question(("a",), (1,)), 1))
+NO_INTEGERS = NO_NUMBERS + (Ratio(1), Ratio(1, 2))
+NO_SEQUENCES = STRANGE + (0, 1, Ratio(1), "", "a", "ab", Question(("a",), (1,)), Run(Question(("a",), (1,)), 1))
+# Sequences that are no effects, each with one fault.
+NO_EFFECTS = NO_SEQUENCES + (
+    (), [], ("a", "a"), ["a", "b", "a"], ("a", "b", "c", "d", "e"), ["a", "b", "c", "d", "a"],
+    ("",), ("A",), ("aB",), ("1",), ("1a",), ("_a",), ("a_",), ("a b",), (" a",), ("a\n",), ("a-",), ("\u00e4",),
+    ("a\u0661",), ("abcdefghi",), ("a" * 1000,), (1,), ("a", None), ("a", True), (b"a",), (("a",),), ["a", ["b"]],
+    (Ratio(1),),
+)
+
+
+class MethodCase(unittest.TestCase):
+    """A test case that knows ratios and refusals."""
+
+    def same_ratio(self, value, top, bottom=1):
+        self.assertIs(value.__class__, Ratio)
+        self.assertIs(value.top.__class__, int)
+        self.assertIs(value.bottom.__class__, int)
+        self.assertEqual((value.top, value.bottom), (top, bottom))
+
+    def same_ratios(self, values, expected):
+        """The values are a tuple of Ratios; what is expected are integers or pairs."""
+        self.assertIs(values.__class__, tuple)
+        self.assertEqual(len(values), len(expected))
+        for value, parts in zip(values, expected):
+            self.same_ratio(value, *(parts if isinstance(parts, tuple) else (parts,)))
+
+    def refused(self, error, fields, action, *given):
+        """The action raises just this error, with these values of its fields."""
+        with self.assertRaises(error) as caught:
+            action(*given)
+        self.assertIs(caught.exception.__class__, error)
+        self.assertEqual(tuple(vars(caught.exception).values()), fields)

@@ -1,0 +1,55 @@
+"""The interface: names, arguments and methods stand where the document lists them."""
+
+import inspect
+import unittest
+from importlib import import_module
+
+from anymethod.questions import Question
+from anymethod.ratios import Ratio
+from anymethod.runs import Run
+
+ARITHMETIC = ("__add__", "__radd__", "__sub__", "__rsub__", "__mul__", "__rmul__", "__floordiv__", "__rfloordiv__",
+              "__mod__", "__rmod__", "__pow__", "__neg__", "__pos__", "__abs__")
+COMPARISONS = ("__eq__", "__lt__", "__le__", "__gt__", "__ge__")
+METHODS = {
+    Ratio: ("over", "power", "text", "read", *ARITHMETIC, *COMPARISONS),
+    Question: ("at", "over", "__add__", "__sub__", "__neg__", "__mul__", "__rmul__", "__eq__"),
+    Run: ("sees", "__eq__"),
+}
+ARGUMENTS = {
+    "ratios": {"Ratio": "(top, bottom=1)", "Ratio.over": "(self, number)", "Ratio.power": "(self, k)",
+               "Ratio.text": "(self)", "Ratio.read": "(text)"},
+    "questions": {"Question": "(effects, weights)", "Question.at": "(self, world)", "Question.over": "(self, number)",
+                  "effect": "(effects, name)", "nothing": "(effects)"},
+    "runs": {"Run": "(question, slip)", "Run.sees": "(self, world)"},
+}
+
+
+class InterfaceTest(unittest.TestCase):
+    def test_names_and_arguments(self):
+        for module, signatures in ARGUMENTS.items():
+            for path, signature in signatures.items():
+                thing = import_module("anymethod." + module)
+                for name in path.split("."):
+                    thing = getattr(thing, name)
+                self.assertEqual(str(inspect.signature(thing)), signature, path)
+                self.assertEqual(thing.__module__, "anymethod." + module, path)
+
+    def test_methods_stand_in_their_class(self):
+        for owner, names in METHODS.items():
+            self.assertEqual(owner.__bases__, (object,))
+            for name in names:
+                self.assertIn(name, vars(owner), owner)
+
+    def test_read_is_static(self):
+        self.assertIsInstance(vars(Ratio)["read"], staticmethod)
+
+    def test_fields_are_set_when_created(self):
+        question = Question(("a",), (1,))
+        self.assertEqual(set(vars(Ratio(1, 2))), {"top", "bottom"})
+        self.assertEqual(set(vars(question)), {"effects", "weights"})
+        self.assertEqual(set(vars(Run(question, 1))), {"question", "slip"})
+
+
+if __name__ == "__main__":
+    unittest.main()

@@ -1,0 +1,129 @@
+"""Rules of LANGUAGE.md that can be told from the files alone; it is not all of them."""
+
+import ast
+import builtins
+import io
+import re
+import tokenize
+import unittest
+from pathlib import Path
+
+PACKAGE = Path(__file__).resolve().parent.parent / "anymethod"
+FILES = sorted(PACKAGE.rglob("*.py"))
+LIBRARY = {
+    "heapq": {"heappush", "heappop", "heapify", "heapreplace", "heappushpop"},
+    "math": {"gcd", "lcm", "isqrt", "comb", "perm", "factorial"},
+    "itertools": {"product", "combinations", "permutations"},
+}
+BARRED = set(
+    "register mro elements open input law version_info with_traceback add_note type typing typing_extensions enum Enum"
+    " IntEnum StrEnum Flag IntFlag Generic Protocol ABC ABCMeta namedtuple NamedTuple TypedDict TYPE_CHECKING"
+    " abstractmethod".split()
+)
+BUILTINS_IN_USE = set(
+    "len range enumerate zip min max sum abs sorted reversed int str bool list tuple dict set isinstance ord repr any all"
+    " divmod iter next map object property staticmethod classmethod super Exception ValueError TypeError KeyError"
+    " IndexError LookupError ZeroDivisionError NotImplemented True False None".split()
+)
+STATEMENTS = (ast.Import, ast.Global, ast.AsyncFunctionDef, ast.AsyncFor, ast.AsyncWith, ast.Await)
+TAKE_A_LIST = ("any", "all", "min", "max", "sum", "sorted")
+
+
+def bound_names(tree):
+    """The names of variables, parameters, functions and classes, methods aside."""
+    methods = {id(row) for node in ast.walk(tree) if isinstance(node, ast.ClassDef) for row in node.body}
+    for node in ast.walk(tree):
+        if isinstance(node, ast.Name) and not isinstance(node.ctx, ast.Load):
+            yield node.id
+        elif isinstance(node, ast.arg):
+            yield node.arg
+        elif isinstance(node, (ast.FunctionDef, ast.ClassDef)) and id(node) not in methods:
+            yield node.name
+
+
+def code_words(text):
+    """The words of the names and strings, without comments and docstrings."""
+    tree = ast.parse(text)
+    docstrings = {
+        node.body[0].lineno for node in ast.walk(tree)
+        if isinstance(node, (ast.Module, ast.ClassDef, ast.FunctionDef)) and ast.get_docstring(node) is not None
+    }
+    for token in tokenize.generate_tokens(io.StringIO(text).readline):
+        if token.type != tokenize.COMMENT and not (token.type == tokenize.STRING and token.start[0] in docstrings):
+            yield from re.findall(r"\w+", token.string)
+
+
+class LanguageTest(unittest.TestCase):
+    def each(self):
+        for path in FILES:
+            text = path.read_text(encoding="utf-8")
+            yield path, text, ast.parse(text)
+
+    def test_the_folder_holds_nothing_else(self):
+        self.assertIn(PACKAGE / "__init__.py", FILES)
+        for path in PACKAGE.rglob("*"):
+            if "__pycache__" not in path.parts:
+                self.assertRegex(path.name, r"^([a-z][a-z0-9_]*|__init__|__main__)\.py$")
+
+    def test_characters_and_lines(self):
+        for path, text, _ in self.each():
+            self.assertRegex(text, r"\A[ -~\n]*\Z", path.name)
+            self.assertLessEqual(len(text.splitlines()), 399, path.name)
+            for line in text.splitlines():
+                self.assertLessEqual(len(line), 120, line)
+
+    def test_functions_are_small(self):
+        for _, _, tree in self.each():
+            for node in ast.walk(tree):
+                if isinstance(node, ast.FunctionDef):
+                    self.assertLessEqual(node.end_lineno - node.lineno + 1, 40, node.name)
+
+    def test_imports(self):
+        defined = {}
+        for path, _, tree in self.each():
+            module = ".".join(path.relative_to(PACKAGE.parent).with_suffix("").parts)
+            defined[module] = {node.name for node in tree.body if isinstance(node, (ast.FunctionDef, ast.ClassDef))}
+            defined[module] |= {node.targets[0].id for node in tree.body if isinstance(node, ast.Assign)}
+        known = {**LIBRARY, **defined}
+        for path, _, tree in self.each():
+            for node in ast.walk(tree):
+                self.assertNotIsInstance(node, STATEMENTS, path.name)
+                if isinstance(node, ast.ImportFrom):
+                    self.assertEqual(node.level, 0, path.name)
+                    for alias in node.names:
+                        self.assertIn(alias.name, known.get(node.module, ()), path.name)
+
+    def test_module_level(self):
+        allowed = (ast.ImportFrom, ast.FunctionDef, ast.ClassDef, ast.Assign)
+        for path, _, tree in self.each():
+            for node in tree.body[1:]:
+                self.assertIsInstance(node, allowed, path.name)
+            self.assertIsNotNone(ast.get_docstring(tree), path.name)
+
+    def test_numbers_and_strings(self):
+        for path, _, tree in self.each():
+            for node in ast.walk(tree):
+                if isinstance(node, ast.Constant):
+                    self.assertNotIsInstance(node.value, (float, complex), path.name)
+                    self.assertNotIn("%", str(node.value), path.name)
+                self.assertNotIsInstance(node, (ast.Div, ast.MatMult), path.name)
+                if isinstance(node, ast.BinOp) and isinstance(node.op, ast.Pow):
+                    self.assertIsInstance(node.right, ast.Constant, path.name)
+
+    def test_names(self):
+        for path, text, tree in self.each():
+            self.assertEqual(set(bound_names(tree)) & set(dir(builtins)), set(), path.name)
+            self.assertEqual(set(code_words(text)) & BARRED, set(), path.name)
+            used = {node.id for node in ast.walk(tree) if isinstance(node, ast.Name) and isinstance(node.ctx, ast.Load)}
+            self.assertEqual((used & set(dir(builtins))) - BUILTINS_IN_USE, set(), path.name)
+
+    def test_no_generator_expression_where_a_list_is_due(self):
+        for path, _, tree in self.each():
+            for node in ast.walk(tree):
+                if isinstance(node, ast.Call) and isinstance(node.func, ast.Name) and node.func.id in TAKE_A_LIST:
+                    for given in node.args:
+                        self.assertNotIsInstance(given, ast.GeneratorExp, path.name)
+
+
+if __name__ == "__main__":
+    unittest.main()
