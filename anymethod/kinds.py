@@ -1,9 +1,10 @@
-"""What kind of thing an argument is: integers, sequences, names and effects."""
+"""What kind of thing an argument is: integers, sequences, names, effects and numbers of wild runs."""
 
 LETTERS = "abcdefghijklmnopqrstuvwxyz"
 DIGITS = "0123456789"
 LONGEST_NAME = 8
 MOST_EFFECTS = 4
+MOST_WILD = 2
 
 
 def is_integer(value):
@@ -25,3 +26,7 @@ def is_effects(value):
     if not is_sequence(value) or not 1 <= len(value) <= MOST_EFFECTS:
         return False
     return all([is_name(item) for item in value]) and len(set(value)) == len(value)
+
+
+def is_wild(value):
+    return is_integer(value) and 0 <= value <= MOST_WILD

@@ -6,6 +6,8 @@ from anymethod.errors import NoRatio
 from anymethod.questions import Question
 from anymethod.ratios import Ratio
 from anymethod.runs import Run
+from anymethod.series import Series
+from anymethod.telling import Bound, Open
 
 # Things of other kinds than numbers, sequences and strings.
 STRANGE = (None, True, False, b"a", {}, {"a": 1}, range(1), NoRatio("top"), len, Ratio)
@@ -19,6 +21,14 @@ NO_EFFECTS = NO_SEQUENCES + (
     ("a\u0661",), ("abcdefghi",), ("a" * 1000,), (1,), ("a", None), ("a", True), (b"a",), (("a",),), ["a", ["b"]],
     (Ratio(1),),
 )
+# Things that are no names, strings among them.
+NO_NAMES = NO_SEQUENCES + ((), [], ("a",), ["a"], [["a"]], ({},), "A", "aB", "1", "1a", "_a", "a_", "a b", " a", "a ",
+                           "a\n", "a-", "\u00e4", "a\u0661", "abcdefghi", "a" * 1000)
+NO_NAMES = tuple(thing for thing in NO_NAMES if thing not in ("a", "ab"))
+NO_RUNS = NO_NUMBERS + (1, Ratio(1), Series(("a",)), Bound(1, ()), Open(1, ()))
+NO_RUNS = tuple(thing for thing in NO_RUNS if not isinstance(thing, Run))
+NO_WILDS = (3, -1, 4, 10 ** 30, True, False, None, "1", "", b"1", [], (), [1], (1,), {}, {0: 0}, Ratio(0), Ratio(1),
+            Ratio(1, 2), NoRatio("top"), range(2), len)
 
 
 class MethodCase(unittest.TestCase):

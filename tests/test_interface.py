@@ -7,6 +7,8 @@ from importlib import import_module
 from anymethod.questions import Question
 from anymethod.ratios import Ratio
 from anymethod.runs import Run
+from anymethod.series import Series
+from anymethod.telling import Bound, Open
 
 ARITHMETIC = ("__add__", "__radd__", "__sub__", "__rsub__", "__mul__", "__rmul__", "__floordiv__", "__rfloordiv__",
               "__mod__", "__rmod__", "__pow__", "__neg__", "__pos__", "__abs__")
@@ -15,6 +17,10 @@ METHODS = {
     Ratio: ("over", "power", "text", "read", *ARITHMETIC, *COMPARISONS),
     Question: ("at", "over", "__add__", "__sub__", "__neg__", "__mul__", "__rmul__", "__eq__"),
     Run: ("sees", "__eq__"),
+    Series: ("drop", "names", "copy", "seen_by", "trying", "__getitem__", "__setitem__", "__contains__", "__len__",
+             "__or__", "__ior__", *COMPARISONS),
+    Bound: ("__eq__",),
+    Open: ("__eq__",),
 }
 ARGUMENTS = {
     "ratios": {"Ratio": "(top, bottom=1)", "Ratio.over": "(self, number)", "Ratio.power": "(self, k)",
@@ -22,6 +28,14 @@ ARGUMENTS = {
     "questions": {"Question": "(effects, weights)", "Question.at": "(self, world)", "Question.over": "(self, number)",
                   "effect": "(effects, name)", "nothing": "(effects)"},
     "runs": {"Run": "(question, slip)", "Run.sees": "(self, world)"},
+    "series": {"Series": "(effects)", "Series.drop": "(self, name)", "Series.names": "(self)", "Series.copy": "(self)",
+               "Series.seen_by": "(self, world)", "Series.trying": "(self)"},
+    "changes": {"change": "(series, steps)"},
+    "telling": {"Bound": "(error, weights)", "Open": "(error, world)",
+                "least_error": "(series, question, *, wild=0)", "bound_of": "(series, question, *, wild=0)",
+                "open_of": "(series, question, *, wild=0)", "twin_readings": "(series, question, *, wild=0)"},
+    "compared": {"lacking": "(one, other)", "alike": "(one, other)", "cover": "(one, other)", "needless": "(series)",
+                 "trimmed": "(series)"},
 }
 
 
@@ -49,6 +63,9 @@ class InterfaceTest(unittest.TestCase):
         self.assertEqual(set(vars(Ratio(1, 2))), {"top", "bottom"})
         self.assertEqual(set(vars(question)), {"effects", "weights"})
         self.assertEqual(set(vars(Run(question, 1))), {"question", "slip"})
+        self.assertLessEqual({"effects"}, set(vars(Series(("a",)))))
+        self.assertEqual(set(vars(Bound(1, ()))), {"error", "weights"})
+        self.assertEqual(set(vars(Open(1, ()))), {"error", "world"})
 
 
 if __name__ == "__main__":

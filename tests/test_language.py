@@ -124,6 +124,72 @@ class LanguageTest(unittest.TestCase):
                     for given in node.args:
                         self.assertNotIsInstance(given, ast.GeneratorExp, path.name)
 
+    def test_what_stands_beside_an_item_operator(self):
+        for path, text, tree in self.each():
+            for words in ("(type)", "Meta", "metaclass="):
+                self.assertNotIn(words, text, path.name)
+            for node in ast.walk(tree):
+                if isinstance(node, ast.Attribute):
+                    self.assertFalse(node.attr == "keys" and isinstance(node.ctx, ast.Store), path.name)
+                if isinstance(node, ast.Call) and isinstance(node.func, ast.Name) and node.func.id == "reversed":
+                    self.assertIn(getattr(node.args[0].func, "id", None), ("list", "tuple", "sorted", "range"), path.name)
+                if isinstance(node, ast.ClassDef):
+                    names = {row.name for row in node.body if isinstance(row, ast.FunctionDef)}
+                    self.assertNotIn("keys", names)
+                    self.assertTrue("__iter__" in names or "__getitem__" not in names, node.name)
+
+    def test_operators_change_nothing(self):
+        functions = {}
+        start = set()
+        for _, _, tree in self.each():
+            for node in ast.walk(tree):
+                if isinstance(node, ast.FunctionDef):
+                    functions.setdefault(node.name, []).append(node)
+                    if node.name.startswith("__") and node.name not in FREE:
+                        start.add(node.name)
+        reached, left = set(), start
+        while left:
+            name = left.pop()
+            reached.add(name)
+            for function in functions[name]:
+                left |= called_names(function) & set(functions) - reached
+        for name in reached - set(FREE):
+            for function in functions[name]:
+                self.assertEqual(changes_of(function), [], name)
+
+
+# What may change things: creating an object, the operators in place, and the rest that is no operator.
+FREE = ("__init__", "__setitem__", "__ior__", "__enter__", "__exit__", "__call__", "__iter__")
+MODIFYING = ("append", "clear", "extend", "insert", "pop", "remove", "reverse", "setdefault", "update", "sort", "add")
+
+
+def called_names(function):
+    for_calls = {node.func for node in ast.walk(function) if isinstance(node, ast.Call)}
+    names = {func.id for func in for_calls if isinstance(func, ast.Name)}
+    return names | {func.attr for func in for_calls if isinstance(func, ast.Attribute)}
+
+
+def changes_of(function):
+    """The lines on which a function changes something else than a list or dict that it made itself."""
+    own = set()
+    for node in ast.walk(function):
+        if isinstance(node, ast.Assign) and isinstance(node.targets[0], ast.Name):
+            made = node.value
+            if isinstance(made, (ast.List, ast.Dict, ast.ListComp)) or (
+                    isinstance(made, ast.Call) and getattr(made.func, "id", None) in ("list", "dict", "sorted")):
+                own.add(node.targets[0].id)
+    lines = []
+    for node in ast.walk(function):
+        if isinstance(node, (ast.AugAssign, ast.Delete, ast.Nonlocal)):
+            lines.append(node.lineno)
+        elif isinstance(node, (ast.Attribute, ast.Subscript)) and isinstance(node.ctx, ast.Store):
+            if isinstance(node, ast.Attribute) or getattr(node.value, "id", None) not in own:
+                lines.append(node.lineno)
+        elif isinstance(node, ast.Call) and getattr(node.func, "attr", None) in MODIFYING:
+            if getattr(node.func.value, "id", None) not in own:
+                lines.append(node.lineno)
+    return lines
+
 
 if __name__ == "__main__":
     unittest.main()

@@ -1,0 +1,144 @@
+"""A second way to compute what the package computes: by going through all small sets of runs, with Fractions."""
+
+import random
+from fractions import Fraction
+from itertools import combinations
+
+from anymethod.questions import Question
+from anymethod.ratios import Ratio
+from anymethod.runs import Run
+from anymethod.series import Series
+
+EFFECTS = ("a", "b", "c", "d")
+
+
+def fraction(number):
+    return Fraction(number.top, number.bottom) if isinstance(number, Ratio) else Fraction(number)
+
+
+def weights_of(question):
+    return tuple(fraction(weight) for weight in question.weights)
+
+
+def solution(columns, target):
+    """The only numbers with which the columns add up to the target; None if there are none or many."""
+    rows = [[column[at] for column in columns] + [target[at]] for at in range(len(target))]
+    solved = 0
+    for place in range(len(columns)):
+        pivot = next((at for at in range(solved, len(rows)) if rows[at][place] != 0), None)
+        if pivot is None:
+            return None
+        rows[solved], rows[pivot] = rows[pivot], rows[solved]
+        rows[solved] = [number / rows[solved][place] for number in rows[solved]]
+        for at, row in enumerate(rows):
+            if at != solved:
+                rows[at] = [one - row[place] * two for one, two in zip(row, rows[solved])]
+        solved += 1
+    if any(row[-1] != 0 for row in rows[solved:]):
+        return None
+    return [row[-1] for row in rows[:solved]]
+
+
+def basic_combinations(series, target, names):
+    """All combinations of independent runs of these names that make the target (weights)."""
+    found = []
+    for size in range(len(target) + 1):
+        for chosen in combinations(names, size):
+            numbers = solution([weights_of(series[name].question) for name in chosen], target)
+            if numbers is not None:
+                found.append(dict(zip(chosen, numbers)))
+    return found
+
+
+def cost(series, combination):
+    return sum(abs(value) * fraction(series[name].slip) for name, value in combination.items())
+
+
+def lost_sets(series, count):
+    return list(combinations(series.names(), min(count, len(series))))
+
+
+def second_least_error(series, question, wild):
+    """The second fact of [18]; a least cost is that of a combination of independent runs."""
+    worst = Fraction(0)
+    found = basic_combinations(series, weights_of(question), series.names())
+    for lost in lost_sets(series, 2 * wild):
+        costs = [cost(series, combination) for combination in found if not set(lost) & set(combination)]
+        if not costs:
+            return None
+        worst = max(worst, min(costs))
+    return worst
+
+
+class Maker:
+    """Makes questions and series that are the same in every run of the tests."""
+
+    def __init__(self, seed, most=3):
+        self.chance = random.Random(seed)
+        self.most = most
+
+    def number(self):
+        return Ratio(self.chance.randint(-self.most, self.most), self.chance.choice((1, 1, 1, 2, 3)))
+
+    def question(self, effects):
+        return Question(effects, [self.number() for _ in effects])
+
+    def run(self, effects):
+        return Run(self.question(effects), abs(self.number()))
+
+    def series(self, effects, count):
+        series = Series(effects)
+        names = ["r" + str(at) for at in range(count)]
+        self.chance.shuffle(names)
+        for name in names:
+            series[name] = self.run(effects)
+        return series
+
+    def cases(self, count, most_effects=4, most_runs=8):
+        """So many pairs of a series and a question, small ones more often than great ones."""
+        for _ in range(count):
+            effects = EFFECTS[:self.chance.randint(1, most_effects)]
+            yield self.series(effects, self.chance.randint(0, most_runs)), self.question(effects)
+
+
+def turned(series):
+    """The same series, put in in the opposite order."""
+    other = Series(list(series.effects))
+    for name in reversed(series.names()):
+        other[name] = series[name]
+    return other
+
+
+def second_greatest_answer(series, question, wild):
+    """The first fact of [18] for two effects: the greatest answer at the corners where two runs are at their limits."""
+    worst = Fraction(0)
+    target = weights_of(question)
+    for lost in lost_sets(series, 2 * wild):
+        limits = [(weights_of(series[name].question), fraction(series[name].slip))
+                  for name in series.names() if name not in lost]
+        if not is_limited(limits, target):
+            return None
+        # A line across the others closes the strip that parallel runs leave; the question does not change along it.
+        across = [((-target[1], target[0]), Fraction(0))]
+        for (one, first), (other, second) in combinations(limits + across, 2):
+            bottom = one[0] * other[1] - one[1] * other[0]
+            for one_sign, other_sign in ((1, 1), (1, -1), (-1, 1), (-1, -1)):
+                if bottom != 0:
+                    top, side = one_sign * first, other_sign * second
+                    world = ((top * other[1] - one[1] * side) / bottom, (one[0] * side - top * other[0]) / bottom)
+                    if all(abs(answer(limit, world)) <= slip for limit, slip in limits):
+                        worst = max(worst, answer(target, world))
+    return worst
+
+
+def answer(weights, world):
+    return sum(weight * value for weight, value in zip(weights, world))
+
+
+def is_limited(limits, target):
+    """Whether the question is parallel to a run, or two runs are not parallel."""
+    weights = [weight for weight, _ in limits if any(weight)]
+    if not any(target):
+        return True
+    crossing = any(one[0] * other[1] != one[1] * other[0] for one, other in combinations(weights, 2))
+    return crossing or any(one[0] * target[1] == one[1] * target[0] for one in weights)
