@@ -4,6 +4,7 @@ from anymethod.errors import NoWild, OtherEffects
 from anymethod.kinds import is_sequence, is_wild
 from anymethod.programs import Column, solved
 from anymethod.ratios import Ratio
+from anymethod.weighing import subsets, uses_one_of
 
 
 class Bound:
@@ -55,22 +56,10 @@ def check_asked(series, question, wild):
         raise NoWild()
 
 
-def subsets(names, count):
-    """All lists of so many of the names; all of them, if there are fewer."""
-    found = [[]]
-    for name in names:
-        found = found + [[*chosen, name] for chosen in found if len(chosen) < count]
-    return [chosen for chosen in found if len(chosen) == min(count, len(names))]
-
-
-def uses_one_of(combination, names):
-    return any([name in combination for name in names])
-
-
 def found_about(series, question, wild):
     """The least cost behind the worst loss of twice as many runs as may be wild."""
     names = series.names()
-    columns = {name: slip_column(series[name]) for name in names}
+    columns = {name: run_column(series[name], 0) for name in names}
     combinations = []
     error = None
     world = None
@@ -90,8 +79,9 @@ def found_about(series, question, wild):
     return Found(error, combinations, world)
 
 
-def slip_column(run):
-    return Column(run.question.weights, run.slip, run.slip)
+def run_column(run, reading):
+    """The column whose limits are those that the reading sets to the answer of the run's question."""
+    return Column(run.question.weights, run.slip + reading, run.slip - reading)
 
 
 def least_error(series, question, *, wild=0):

@@ -3,8 +3,10 @@
 import unittest
 
 from anymethod.errors import NoRatio
+from anymethod.methods import Combined
 from anymethod.questions import Question
 from anymethod.ratios import Ratio
+from anymethod.readings import Estimator
 from anymethod.runs import Run
 from anymethod.series import Series
 from anymethod.telling import Bound, Open
@@ -29,6 +31,25 @@ NO_RUNS = NO_NUMBERS + (1, Ratio(1), Series(("a",)), Bound(1, ()), Open(1, ()))
 NO_RUNS = tuple(thing for thing in NO_RUNS if not isinstance(thing, Run))
 NO_WILDS = (3, -1, 4, 10 ** 30, True, False, None, "1", "", b"1", [], (), [1], (1,), {}, {0: 0}, Ratio(0), Ratio(1),
             Ratio(1, 2), NoRatio("top"), range(2), len)
+# Things of every kind, for what may be anything.
+CANDIDATES = NO_NUMBERS + (
+    0, 1, -5, 10 ** 40, Ratio(1, 2), "x", "abc", b"", bytes(3), [[]], [{}], ({},), ((),), {"x": {}}, {"x": Ratio(1)},
+    (None,), (1, (2, (3, [4]))), Series(("a",)), Series(("a", "b")), Bound(0, ()), Bound(0, [{}]), Bound(None, None),
+    Open(0, ()), Open(None, None), Combined({}), Combined({"x": 1}), Estimator(Series(("a",)), Question(("a",), (0,))),
+    NoRatio, ValueError("x"), print, range(0), object(), iter(()), Exception, int, str.lower,
+)
+
+
+def hashable(things):
+    """Those of the things that can be keys of a dict."""
+    found = []
+    for thing in things:
+        try:
+            hash(thing)
+        except TypeError:
+            continue
+        found.append(thing)
+    return found
 
 
 class MethodCase(unittest.TestCase):

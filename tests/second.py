@@ -4,7 +4,7 @@ import random
 from fractions import Fraction
 from itertools import combinations
 
-from anymethod.questions import Question
+from anymethod.questions import Question, nothing
 from anymethod.ratios import Ratio
 from anymethod.runs import Run
 from anymethod.series import Series
@@ -70,6 +70,71 @@ def second_least_error(series, question, wild):
     return worst
 
 
+def dependencies(series, names):
+    """All combinations of these runs that make the question of zeros and of which no run can be left out."""
+    found = []
+    for last in names:
+        target = weights_of(series[last].question)
+        for combination in basic_combinations(series, target, [name for name in names if name != last]):
+            found.append({last: Fraction(-1), **combination})
+    return found
+
+
+def excess(series, readings, combination):
+    """By how much the readings go beyond what the slips explain; above 0 is a contradiction."""
+    total = sum(value * fraction(readings[name]) for name, value in combination.items())
+    return abs(total) - cost(series, combination)
+
+
+def possible(series, target, readings, names):
+    """The values that these runs leave to the question: None, (None, None) or the two ends."""
+    if any(excess(series, readings, combination) > 0 for combination in dependencies(series, names)):
+        return None
+    lows, highs = [], []
+    for combination in basic_combinations(series, target, names):
+        middle = sum(value * fraction(readings[name]) for name, value in combination.items())
+        lows.append(middle - cost(series, combination))
+        highs.append(middle + cost(series, combination))
+    return (max(lows), min(highs)) if lows else (None, None)
+
+
+def left_sets(series, wild):
+    return [[name for name in series.names() if name not in lost] for lost in lost_sets(series, wild)]
+
+
+def union(pairs):
+    """The ascending pairs that do not touch, of the pairs of ends; (None, None) is everything, None is nothing."""
+    pairs = [pair for pair in pairs if pair is not None]
+    if (None, None) in pairs:
+        return [(None, None)]
+    joined = []
+    for low, high in sorted(pairs):
+        if joined and low <= joined[-1][1]:
+            joined[-1] = (joined[-1][0], max(high, joined[-1][1]))
+        else:
+            joined.append((low, high))
+    return joined
+
+
+def second_stretches(series, question, readings, wild):
+    return union(possible(series, weights_of(question), readings, names) for names in left_sets(series, wild))
+
+
+def second_surely_wild(series, readings, wild):
+    """None if no world fits."""
+    zeros = weights_of(nothing(series.effects))
+    if all(possible(series, zeros, readings, names) is None for names in left_sets(series, wild)):
+        return None
+    names = []
+    for name in series.names():
+        others = [other for other in series.names() if other != name]
+        lots = combinations(others, min(wild, len(others)))
+        kept = [[other for other in series.names() if other not in lost] for lost in lots]
+        if all(possible(series, zeros, readings, left) is None for left in kept):
+            names.append(name)
+    return names
+
+
 class Maker:
     """Makes questions and series that are the same in every run of the tests."""
 
@@ -93,6 +158,17 @@ class Maker:
         for name in names:
             series[name] = self.run(effects)
         return series
+
+    def readings(self, series, wild=0, spread=1):
+        """What the runs read in some world, with errors of up to so many times their slip, and some of them wild."""
+        world = [self.number() for _ in series.effects]
+        readings = {}
+        for name in series.names():
+            slip = series[name].slip * Ratio(self.chance.randint(-spread * 4, spread * 4), 4)
+            readings[name] = series[name].question.at(world) + slip
+        for name in self.chance.sample(series.names(), min(wild, len(series))):
+            readings[name] += self.chance.randint(-20, 20)
+        return readings
 
     def cases(self, count, most_effects=4, most_runs=8):
         """So many pairs of a series and a question, small ones more often than great ones."""

@@ -4,8 +4,10 @@ import inspect
 import unittest
 from importlib import import_module
 
+from anymethod.methods import Combined
 from anymethod.questions import Question
 from anymethod.ratios import Ratio
+from anymethod.readings import Estimator
 from anymethod.runs import Run
 from anymethod.series import Series
 from anymethod.telling import Bound, Open
@@ -21,6 +23,8 @@ METHODS = {
              "__or__", "__ior__", *COMPARISONS),
     Bound: ("__eq__",),
     Open: ("__eq__",),
+    Combined: ("__call__",),
+    Estimator: ("__call__",),
 }
 ARGUMENTS = {
     "ratios": {"Ratio": "(top, bottom=1)", "Ratio.over": "(self, number)", "Ratio.power": "(self, k)",
@@ -34,6 +38,18 @@ ARGUMENTS = {
     "telling": {"Bound": "(error, weights)", "Open": "(error, world)",
                 "least_error": "(series, question, *, wild=0)", "bound_of": "(series, question, *, wild=0)",
                 "open_of": "(series, question, *, wild=0)", "twin_readings": "(series, question, *, wild=0)"},
+    "checking": {"check_bound": "(series, question, candidate, *, wild=0)",
+                 "check_open": "(series, question, candidate, *, wild=0)"},
+    "methods": {"Combined": "(weights)", "Combined.__call__": "(self, readings)",
+                "fooled": "(series, question, method, *, wild=0)", "linear_error": "(series, question, method)",
+                "linear_case": "(series, question, method)"},
+    "readings": {"fits": "(series, world, readings, *, wild=0)", "world_of": "(series, readings, *, wild=0)",
+                 "stretches": "(series, question, readings, *, wild=0)",
+                 "estimate": "(series, question, readings, *, wild=0)", "Estimator": "(series, question, *, wild=0)",
+                 "Estimator.__call__": "(self, readings)"},
+    "clashes": {"clash_of": "(series, readings, *, wild=0)",
+                "check_clash": "(series, readings, candidate, *, wild=0)",
+                "surely_wild": "(series, readings, *, wild=0)"},
     "compared": {"lacking": "(one, other)", "alike": "(one, other)", "cover": "(one, other)", "needless": "(series)",
                  "trimmed": "(series)"},
 }
@@ -66,6 +82,8 @@ class InterfaceTest(unittest.TestCase):
         self.assertLessEqual({"effects"}, set(vars(Series(("a",)))))
         self.assertEqual(set(vars(Bound(1, ()))), {"error", "weights"})
         self.assertEqual(set(vars(Open(1, ()))), {"error", "world"})
+        self.assertEqual(set(vars(Combined({}))), {"weights"})
+        self.assertLessEqual({"question", "wild"}, set(vars(Estimator(Series(("a",)), question))))
 
 
 if __name__ == "__main__":
