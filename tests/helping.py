@@ -4,12 +4,25 @@ import unittest
 
 from anymethod.errors import NoRatio
 from anymethod.methods import Combined
-from anymethod.questions import Question
+from anymethod.questions import Question, effect
 from anymethod.ratios import Ratio
 from anymethod.readings import Estimator
 from anymethod.runs import Run
 from anymethod.series import Series
 from anymethod.telling import Bound, Open
+
+AB = ("a", "b")
+A = effect(AB, "a")
+B = effect(AB, "b")
+
+
+def made(effects=AB, **runs):
+    """A series with these runs."""
+    series = Series(effects)
+    for name, run in runs.items():
+        series[name] = run
+    return series
+
 
 # Things of other kinds than numbers, sequences and strings.
 STRANGE = (None, True, False, b"a", {}, {"a": 1}, range(1), NoRatio("top"), len, Ratio)

@@ -8,19 +8,11 @@ from anymethod.questions import effect
 from anymethod.ratios import Ratio
 from anymethod.runs import Run
 from anymethod.series import Series
-from tests.helping import NO_SEQUENCES, MethodCase
+from tests.helping import A, NO_SEQUENCES, MethodCase, made
 
-A = effect(("a",), "a")
 X = Run(A, 1)
 Y = Run(2 * A, 1)
 FAILS = ("drop", "none")
-
-
-def made(**runs):
-    series = Series(("a",))
-    for name, run in runs.items():
-        series[name] = run
-    return series
 
 
 def raising(error):
@@ -31,8 +23,9 @@ def raising(error):
 
 class StepTest(MethodCase):
     def test_example(self):
-        series = made()
-        self.assertEqual(change(series, [("put", "x", X), ("attempt", [("put", "y", X), ("drop", "z")])]), 1)
+        series = Series(("a",))
+        run = Run(effect(("a",), "a"), 1)
+        self.assertEqual(change(series, [("put", "x", run), ("attempt", [("put", "y", run), ("drop", "z")])]), 1)
         self.assertEqual(series.names(), ["x"])
 
     def test_no_step(self):

@@ -7,22 +7,11 @@ from anymethod.errors import NoWild, OtherEffects
 from anymethod.questions import effect, nothing
 from anymethod.ratios import Ratio
 from anymethod.runs import Run
-from anymethod.series import Series
 from anymethod.telling import Bound, Open, bound_of, least_error, open_of
-from tests.helping import CANDIDATES, NO_NAMES, NO_NUMBERS, NO_WILDS, MethodCase, hashable
+from tests.helping import A, AB, B, CANDIDATES, NO_NAMES, NO_NUMBERS, NO_WILDS, MethodCase, hashable, made
 from tests.second import Maker
 
-AB = ("a", "b")
-A = effect(AB, "a")
-B = effect(AB, "b")
 SMALL = Ratio(1, 10 ** 60)
-
-
-def made(effects=AB, **runs):
-    series = Series(effects)
-    for name, run in runs.items():
-        series[name] = run
-    return series
 
 
 EMPTY = made()

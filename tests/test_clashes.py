@@ -5,25 +5,14 @@ import unittest
 
 from anymethod.clashes import check_clash, clash_of, surely_wild
 from anymethod.errors import Clash, NoReadings, NoWild
-from anymethod.questions import effect, nothing
+from anymethod.questions import nothing
 from anymethod.ratios import Ratio
 from anymethod.readings import world_of
 from anymethod.runs import Run
-from anymethod.series import Series
-from tests.helping import CANDIDATES, NO_NAMES, NO_NUMBERS, NO_WILDS, MethodCase, hashable
+from tests.helping import A, AB, B, CANDIDATES, NO_NAMES, NO_NUMBERS, NO_WILDS, MethodCase, hashable, made
 from tests.second import EFFECTS, Maker, second_surely_wild, turned
 
-AB = ("a", "b")
-A = effect(AB, "a")
-B = effect(AB, "b")
 SMALL = Ratio(1, 10 ** 60)
-
-
-def made(effects=AB, **runs):
-    series = Series(effects)
-    for name, run in runs.items():
-        series[name] = run
-    return series
 
 
 EMPTY = made()

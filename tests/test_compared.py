@@ -5,24 +5,14 @@ import unittest
 
 from anymethod.compared import alike, cover, lacking, needless, trimmed
 from anymethod.errors import OtherEffects
-from anymethod.questions import Question, effect, nothing
+from anymethod.questions import effect, nothing
 from anymethod.ratios import Ratio
 from anymethod.runs import Run
 from anymethod.series import Series
 from anymethod.telling import Bound, least_error
-from tests.helping import MethodCase
+from tests.helping import A, AB, B, MethodCase, made
 from tests.second import EFFECTS, Maker, fraction, second_least_error, turned
 
-AB = ("a", "b")
-A = effect(AB, "a")
-B = effect(AB, "b")
-
-
-def made(**runs):
-    series = Series(AB)
-    for name, run in runs.items():
-        series[name] = run
-    return series
 
 
 EMPTY = made()

@@ -8,21 +8,10 @@ from anymethod.questions import Question, effect, nothing
 from anymethod.ratios import Ratio
 from anymethod.readings import Estimator, fits
 from anymethod.runs import Run
-from anymethod.series import Series
 from anymethod.telling import bound_of, least_error
-from tests.helping import CANDIDATES, NO_NAMES, NO_NUMBERS, NO_WILDS, MethodCase, hashable
+from tests.helping import A, AB, B, CANDIDATES, NO_NAMES, NO_NUMBERS, NO_WILDS, MethodCase, hashable, made
 from tests.second import Maker
 
-AB = ("a", "b")
-A = effect(AB, "a")
-B = effect(AB, "b")
-
-
-def made(effects=AB, **runs):
-    series = Series(effects)
-    for name, run in runs.items():
-        series[name] = run
-    return series
 
 
 EMPTY = made()
@@ -98,10 +87,9 @@ class Spy:
         return self.result
 
 
-class FooledTest(MethodCase):
-    def holds(self, series, question, method, wild=0):
-        """The method errs by at least the least error; the readings are returned."""
-        pair = fooled(series, question, method, wild=wild)
+class PairCase(MethodCase):
+    def parts(self, series, pair, wild=0):
+        """The readings and the world of a pair, which have the form that they should have and fit."""
         self.assertIs(pair.__class__, tuple)
         readings, world = pair
         self.assertIs(readings.__class__, dict)
@@ -110,6 +98,13 @@ class FooledTest(MethodCase):
         for value in (*readings.values(), *world):
             self.assertIs(value.__class__, Ratio)
         self.assertIs(fits(series, world, readings, wild=wild), True)
+        return readings, world
+
+
+class FooledTest(PairCase):
+    def holds(self, series, question, method, wild=0):
+        """The method errs by at least the least error; the readings are returned."""
+        readings, world = self.parts(series, fooled(series, question, method, wild=wild), wild)
         error = least_error(series, question, wild=wild)
         number = method.result if isinstance(method, Spy) else method(dict(readings))
         self.assertGreaterEqual(abs(question.at(world) - number), 1 if error is None else error)
@@ -206,19 +201,11 @@ class FooledTest(MethodCase):
         self.holds(XY, B, Spy(1))
 
 
-class LinearTest(MethodCase):
+class LinearTest(PairCase):
     def case(self, series, question, method):
         """The case errs by just the error, which is returned."""
         error = linear_error(series, question, method)
-        pair = linear_case(series, question, method)
-        self.assertIs(pair.__class__, tuple)
-        readings, world = pair
-        self.assertIs(readings.__class__, dict)
-        self.assertEqual(sorted(readings), series.names())
-        self.assertIs(world.__class__, tuple)
-        for value in (*readings.values(), *world):
-            self.assertIs(value.__class__, Ratio)
-        self.assertIs(fits(series, world, readings), True)
+        readings, world = self.parts(series, linear_case(series, question, method))
         self.assertEqual(abs(method(readings) - question.at(world)), 1 if error is None else error)
         return error
 

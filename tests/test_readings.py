@@ -8,22 +8,11 @@ from anymethod.questions import Question, effect, nothing
 from anymethod.ratios import Ratio
 from anymethod.readings import Estimator, estimate, fits, stretches, world_of
 from anymethod.runs import Run
-from anymethod.series import Series
 from anymethod.telling import least_error
-from tests.helping import NO_NUMBERS, NO_SEQUENCES, NO_WILDS, MethodCase
+from tests.helping import A, AB, B, NO_NUMBERS, NO_SEQUENCES, NO_WILDS, MethodCase, made
 from tests.second import EFFECTS, Maker, fraction, second_stretches, turned, union, weights_of
 
-AB = ("a", "b")
-A = effect(AB, "a")
-B = effect(AB, "b")
 OTHER = effect(("b", "a"), "a")
-
-
-def made(effects=AB, **runs):
-    series = Series(effects)
-    for name, run in runs.items():
-        series[name] = run
-    return series
 
 
 EMPTY = made()

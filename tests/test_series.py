@@ -3,15 +3,12 @@
 import unittest
 
 from anymethod.errors import Full, MethodError, NoName, NoQuestion, NoRun, NoSuch, NoWorld, OtherEffects, Twice
-from anymethod.questions import Question, effect, nothing
+from anymethod.questions import effect, nothing
 from anymethod.ratios import Ratio
 from anymethod.runs import Run
 from anymethod.series import Series
-from tests.helping import NO_EFFECTS, NO_NAMES, NO_RUNS, NO_SEQUENCES, MethodCase
+from tests.helping import A, AB, B, NO_EFFECTS, NO_NAMES, NO_RUNS, NO_SEQUENCES, MethodCase, made
 
-AB = ("a", "b")
-A = effect(AB, "a")
-B = effect(AB, "b")
 X = Run(A, 1)
 Y = Run(A + B, 2)
 Z = Run(B, Ratio(1, 2))
@@ -21,13 +18,6 @@ NAMES = ["p", "q", "r", "s", "t", "u", "v", "w"]
 
 def put(series, name, run):
     series[name] = run
-
-
-def made(**runs):
-    series = Series(AB)
-    for name, run in runs.items():
-        series[name] = run
-    return series
 
 
 def full():

@@ -10,22 +10,12 @@ from anymethod.ratios import Ratio
 from anymethod.runs import Run
 from anymethod.series import Series
 from anymethod.telling import Bound, Open, bound_of, least_error, open_of, twin_readings
-from tests.helping import NO_WILDS, MethodCase
+from tests.helping import A, AB, B, NO_WILDS, MethodCase, made
 from tests.second import (
     EFFECTS, Maker, cost, fraction, lost_sets, second_greatest_answer, second_least_error, turned, weights_of,
 )
 
-AB = ("a", "b")
-A = effect(AB, "a")
-B = effect(AB, "b")
 FUNCTIONS = (least_error, bound_of, open_of, twin_readings)
-
-
-def made(effects=AB, **runs):
-    series = Series(effects)
-    for name, run in runs.items():
-        series[name] = run
-    return series
 
 
 XY = made(x=Run(A, 1), y=Run(A + B, 2))
