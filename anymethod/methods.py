@@ -31,8 +31,9 @@ def fooled(series, question, method, *, wild=0):
     number = method({name: readings[name] for name in readings})
     if not is_number(number):
         raise NoMethod()
-    # The two worlds lie on both sides of 0, the question is not below 0 in the first one.
-    return readings, one if number <= 0 else other
+    # The answers in the two worlds lie on both sides of 0, equally far away; the first one is not below 0.
+    world = one if number <= 0 else other
+    return readings, world
 
 
 def check_linear(series, question, method):
