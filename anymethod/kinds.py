@@ -5,6 +5,7 @@ DIGITS = "0123456789"
 LONGEST_NAME = 8
 MOST_EFFECTS = 4
 MOST_WILD = 2
+MOST_BOUGHT_WILD = 1
 
 
 def is_integer(value):
@@ -30,3 +31,8 @@ def is_effects(value):
 
 def is_wild(value):
     return is_integer(value) and 0 <= value <= MOST_WILD
+
+
+def is_bought_wild(value):
+    """Whether runs can be bought for so many wild ones."""
+    return is_integer(value) and 0 <= value <= MOST_BOUGHT_WILD

@@ -90,6 +90,11 @@ def least_error(series, question, *, wild=0):
     return found_about(series, question, wild).error
 
 
+def is_less(error, other):
+    """Whether a least error is less than another one; None is greater than every number."""
+    return error is not None and (other is None or error < other)
+
+
 def bound_of(series, question, *, wild=0):
     """The least error with combinations that reach it, whichever runs are wild; None if it is None."""
     check_asked(series, question, wild)

@@ -5,6 +5,7 @@ import unittest
 from importlib import import_module
 
 from anymethod.methods import Combined
+from anymethod.offers import Goal, Offer
 from anymethod.questions import Question
 from anymethod.ratios import Ratio
 from anymethod.readings import Estimator
@@ -25,6 +26,8 @@ METHODS = {
     Open: ("__eq__",),
     Combined: ("__call__",),
     Estimator: ("__call__",),
+    Offer: ("total", "series_of", "choices", "__eq__"),
+    Goal: ("__eq__",),
 }
 ARGUMENTS = {
     "ratios": {"Ratio": "(top, bottom=1)", "Ratio.over": "(self, number)", "Ratio.power": "(self, k)",
@@ -52,6 +55,16 @@ ARGUMENTS = {
                 "surely_wild": "(series, readings, *, wild=0)"},
     "compared": {"lacking": "(one, other)", "alike": "(one, other)", "cover": "(one, other)", "needless": "(series)",
                  "trimmed": "(series)"},
+    "offers": {"Offer": "(effects, rows)", "Offer.total": "(self, names)", "Offer.series_of": "(self, names)",
+               "Offer.choices": "(self)", "Goal": "(question, error, *, wild=0)"},
+    "buying": {"cheapest": "(series, offer, goals)", "evidence": "(series, offer, goals)",
+               "check_cheapest": "(series, offer, goals, answer, found)",
+               "prices": "(series, offer, question, *, wild=0)"},
+    "units": {"rewritten": "(series, table)", "rewritten_question": "(question, table)", "scaled": "(series, factors)",
+              "scaled_question": "(question, factors)", "slipped": "(series, factor)", "swapped": "(series, order)",
+              "swapped_question": "(question, order)", "pinned": "(series, name, known)"},
+    "texts": {"question_text": "(question)", "read_question": "(effects, text)", "run_text": "(run)",
+              "read_run": "(effects, text)", "series_text": "(series)", "read_series": "(effects, lines)"},
 }
 
 
@@ -84,6 +97,8 @@ class InterfaceTest(unittest.TestCase):
         self.assertEqual(set(vars(Open(1, ()))), {"error", "world"})
         self.assertEqual(set(vars(Combined({}))), {"weights"})
         self.assertLessEqual({"question", "wild"}, set(vars(Estimator(Series(("a",)), question))))
+        self.assertEqual(set(vars(Offer(("a",), [("x", Run(question, 1), 1)]))), {"effects", "rows"})
+        self.assertEqual(set(vars(Goal(question, 1))), {"question", "error", "wild"})
 
 
 if __name__ == "__main__":
