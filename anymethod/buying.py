@@ -1,8 +1,9 @@
 """The cheapest further runs for given goals, and what each step to a smaller error costs."""
 
-from anymethod.errors import Full, NoGoals, NoWild, OtherEffects, Twice
+from anymethod.errors import Full, NoGoals, NoWild, Twice
 from anymethod.kinds import is_bought_wild, is_integer, is_sequence
 from anymethod.offers import Goal, offered_names
+from anymethod.questions import check_same_effects
 from anymethod.ratios import are_numbers
 from anymethod.telling import is_less, least_error, open_of
 
@@ -66,13 +67,9 @@ def check_goals(series, offer, goals):
     for place, goal in enumerate(goals):
         if not isinstance(goal, Goal):
             raise NoGoals(place)
-    check_effects(series, offer, [goal.question for goal in goals])
+    for thing in [offer, *[goal.question for goal in goals]]:
+        check_same_effects(series, thing)
     check_room(series, offer)
-
-
-def check_effects(series, offer, questions):
-    if any([thing.effects != series.effects for thing in [offer, *questions]]):
-        raise OtherEffects()
 
 
 def check_room(series, offer):
@@ -127,7 +124,8 @@ def is_good_choice(series, offer, goals, answer):
 
 def prices(series, offer, question, *, wild=0):
     """The steps at which money makes the error smaller, as triples (total, names, error)."""
-    check_effects(series, offer, [question])
+    check_same_effects(series, offer)
+    check_same_effects(series, question)
     if not is_bought_wild(wild):
         raise NoWild()
     check_room(series, offer)

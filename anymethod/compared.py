@@ -1,13 +1,12 @@
 """Whether one series is as good as another one for every question, and which runs are needless."""
 
-from anymethod.errors import OtherEffects
+from anymethod.questions import check_same_effects
 from anymethod.telling import bound_of, least_error
 
 
 def lacking(one, other):
     """The names of the runs of one series whose question the other one does not tell within the run's slip."""
-    if one.effects != other.effects:
-        raise OtherEffects()
+    check_same_effects(one, other)
     return [name for name in one.names() if not tells_within_slip(other, one[name])]
 
 

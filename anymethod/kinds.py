@@ -23,10 +23,15 @@ def is_name(value):
     return value[0] in LETTERS and all([char in LETTERS + DIGITS for char in value])
 
 
-def is_effects(value):
-    if not is_sequence(value) or not 1 <= len(value) <= MOST_EFFECTS:
+def are_names(value, most):
+    """Whether the value is a sequence of at least one and at most so many names, each of them once."""
+    if not is_sequence(value) or not 1 <= len(value) <= most:
         return False
     return all([is_name(item) for item in value]) and len(set(value)) == len(value)
+
+
+def is_effects(value):
+    return are_names(value, MOST_EFFECTS)
 
 
 def is_wild(value):

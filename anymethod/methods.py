@@ -1,9 +1,10 @@
 """Methods that are passed: linear ones, and what shows that a method errs."""
 
-from anymethod.errors import NoMethod, NoSuch, NoWeights, OtherEffects
+from anymethod.errors import NoMethod, NoSuch, NoWeights
 from anymethod.kinds import is_name
+from anymethod.questions import check_same_effects
 from anymethod.ratios import Ratio, as_ratio, is_number
-from anymethod.telling import twin_readings
+from anymethod.telling import opposite, twin_readings
 from anymethod.weighing import check_readings, combination_cost, made_question, readings_total
 
 
@@ -26,19 +27,21 @@ class Combined:
 
 def fooled(series, question, method, *, wild=0):
     """Readings, and a world that they fit and in which the method errs by at least the least error."""
-    readings, one, other = twin_readings(series, question, wild=wild)
+    readings, world, _ = twin_readings(series, question, wild=wild)
     # The method gets a copy, because it may change what it gets.
     number = method({name: readings[name] for name in readings})
+    return readings, against(world, number)
+
+
+def against(world, number):
+    """Of a world in which the answer is not below 0 and its opposite, the one further from what a method told."""
     if not is_number(number):
         raise NoMethod()
-    # The answers in the two worlds lie on both sides of 0, equally far away; the first one is not below 0.
-    world = one if number <= 0 else other
-    return readings, world
+    return world if number <= 0 else opposite(world)
 
 
 def check_linear(series, question, method):
-    if series.effects != question.effects:
-        raise OtherEffects()
+    check_same_effects(series, question)
     for name in sorted([str(name) for name in method.weights]):
         if name not in series:
             raise NoSuch(name)

@@ -31,8 +31,7 @@ class Question:
     def __add__(self, other):
         if not isinstance(other, Question):
             return NotImplemented
-        if self.effects != other.effects:
-            raise OtherEffects()
+        check_same_effects(self, other)
         return Question(self.effects, [one + two for one, two in zip(self.weights, other.weights)])
 
     def __sub__(self, other):
@@ -54,6 +53,12 @@ class Question:
     def over(self, number):
         """The question with all weights divided by the number."""
         return Question(self.effects, [weight.over(number) for weight in self.weights])
+
+
+def check_same_effects(one, other):
+    """Refuses two things with effects if these are not the same in the same order."""
+    if one.effects != other.effects:
+        raise OtherEffects()
 
 
 def effect(effects, name):

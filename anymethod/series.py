@@ -1,8 +1,9 @@
 """Series of runs, each run under a name."""
 
 from anymethod.compared import lacking
-from anymethod.errors import Full, NoName, NoQuestion, NoRun, NoSuch, NoWorld, OtherEffects, Twice
+from anymethod.errors import Full, NoName, NoQuestion, NoRun, NoSuch, NoWorld, Twice
 from anymethod.kinds import is_effects, is_name
+from anymethod.questions import check_same_effects
 from anymethod.ratios import are_numbers
 from anymethod.runs import Run
 
@@ -53,8 +54,7 @@ class Series:
             raise NoName(name)
         if not isinstance(run, Run):
             raise NoRun("run")
-        if run.question.effects != self.effects:
-            raise OtherEffects()
+        check_same_effects(self, run.question)
         if name not in self and len(self) == MOST_RUNS:
             raise Full(MOST_RUNS + 1)
         self.runs = {**self.runs, name: run}
@@ -137,8 +137,7 @@ def empty_content(effects):
 
 def joined_runs(one, other):
     """The runs of both series."""
-    if one.effects != other.effects:
-        raise OtherEffects()
+    check_same_effects(one, other)
     for name in other.names():
         if name in one and one[name] != other[name]:
             raise Twice(name)

@@ -1,8 +1,9 @@
 """The least error with which any method can tell a question, and what shows it in both directions."""
 
-from anymethod.errors import NoWild, OtherEffects
+from anymethod.errors import NoWild
 from anymethod.kinds import is_sequence, is_wild
 from anymethod.programs import Column, solved
+from anymethod.questions import check_same_effects
 from anymethod.ratios import Ratio
 from anymethod.weighing import subsets, uses_one_of
 
@@ -45,13 +46,13 @@ class Found:
 
 
 def copied(item):
+    """A copy of a dict; anything else as it is."""
     return {key: item[key] for key in item} if isinstance(item, dict) else item
 
 
 def check_asked(series, question, wild):
     """Refuses a question of other effects, then a number of wild runs that is none."""
-    if series.effects != question.effects:
-        raise OtherEffects()
+    check_same_effects(series, question)
     if not is_wild(wild):
         raise NoWild()
 
@@ -114,8 +115,11 @@ def open_of(series, question, *, wild=0):
 def twin_readings(series, question, *, wild=0):
     """Readings, and two worlds that both fit them and whose answers lie twice the least error (or 2) apart."""
     world = open_of(series, question, wild=wild).world
-    opposite = tuple([-number for number in world])
-    return middle_readings(series, world, wild), world, opposite
+    return middle_readings(series, world, wild), world, opposite(world)
+
+
+def opposite(world):
+    return tuple([-number for number in world])
 
 
 def middle_readings(series, world, wild):

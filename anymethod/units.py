@@ -1,8 +1,8 @@
 """Series and questions told in other units, by other effects, or in another order of them."""
 
-from anymethod.errors import NoFactor, NoName, NoOrder, NoSuch, NoTable, OtherEffects
+from anymethod.errors import NoFactor, NoName, NoOrder, NoTable
 from anymethod.kinds import is_name, is_sequence
-from anymethod.questions import Question, effect, nothing
+from anymethod.questions import Question, check_same_effects, effect, nothing
 from anymethod.ratios import is_number
 from anymethod.runs import Run
 from anymethod.series import Series
@@ -36,10 +36,10 @@ def table_effects(effects, table):
     for name in effects:
         if not isinstance(table, dict) or not isinstance(table.get(name), Question):
             raise NoTable(name)
-    found = table[effects[0]].effects
-    if any([table[name].effects != found for name in effects]):
-        raise OtherEffects()
-    return found
+    first = table[effects[0]]
+    for name in effects:
+        check_same_effects(first, table[name])
+    return first.effects
 
 
 def scaled(series, factors):
@@ -95,8 +95,7 @@ def pinned(series, name, known):
     """A copy of the series in which the run of this name asks the known effect alone, with slip 0."""
     if not is_name(name):
         raise NoName(name)
-    if known not in series.effects:
-        raise NoSuch(known)
+    run = Run(effect(series.effects, known), 0)
     made = series.copy()
-    made[name] = Run(effect(series.effects, known), 0)
+    made[name] = run
     return made

@@ -2,6 +2,8 @@
 
 import unittest
 
+from anymethod.budgets import Budget, Noise, NoiseBound, NoiseOpen
+from anymethod.desk import Desk
 from anymethod.errors import NoRatio
 from anymethod.methods import Combined
 from anymethod.offers import Goal, Offer
@@ -50,6 +52,7 @@ CANDIDATES = NO_NUMBERS + (
     0, 1, -5, 10 ** 40, Ratio(1, 2), "x", "abc", b"", bytes(3), [[]], [{}], ({},), ((),), {"x": {}}, {"x": Ratio(1)},
     (None,), (1, (2, (3, [4]))), Series(("a",)), Series(("a", "b")), Bound(0, ()), Bound(0, [{}]), Bound(None, None),
     Open(0, ()), Open(None, None), Combined({}), Combined({"x": 1}), Estimator(Series(("a",)), Question(("a",), (0,))),
+    Budget(("x",), 1), Noise(Series(("a",))), NoiseBound(0, {}, ()), NoiseOpen(0, (0,), 0), Desk(("a",)),
     Goal(Question(("a",), (1,)), 1), Offer(("a",), [("x", Run(Question(("a",), (1,)), 1), 1)]),
     NoRatio, ValueError("x"), print, range(0), object(), iter(()), Exception, int, str.lower,
 )

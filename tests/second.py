@@ -2,7 +2,7 @@
 
 import random
 from fractions import Fraction
-from itertools import combinations
+from itertools import combinations, product
 
 from anymethod.questions import Question, nothing
 from anymethod.ratios import Ratio
@@ -218,3 +218,92 @@ def is_limited(limits, target):
         return True
     crossing = any(one[0] * other[1] != one[1] * other[0] for one, other in combinations(weights, 2))
     return crossing or any(one[0] * target[1] == one[1] * target[0] for one in weights)
+
+
+def second_price(series, budgets, offset, weights):
+    """The first fact of [49]: the least of the sums is found where as many of its bends meet as there are budgets."""
+    sizes = {name: abs(fraction(weight)) for name, weight in weights.items()}
+    bends = [([int(name in budget.members) for budget in budgets], size) for name, size in sizes.items()]
+    bends += [([int(place == other) for other in range(len(budgets))], Fraction(0)) for place in range(len(budgets))]
+    best = None
+    for chosen in combinations(bends, len(budgets)):
+        columns = [[Fraction(row[place]) for row, _ in chosen] for place in range(len(budgets))]
+        prices = solution(columns, [size for _, size in chosen])
+        if prices is not None and all(price >= 0 for price in prices):
+            total = second_noise_cost(series, budgets, offset, weights, prices)
+            best = total if best is None else min(best, total)
+    return best
+
+
+def second_noise_cost(series, budgets, offset, weights, prices):
+    """The sum of the first fact of [49]."""
+    total = fraction(offset) * abs(sum(fraction(weight) for weight in weights.values()))
+    total += sum(fraction(price) * fraction(budget.most) for price, budget in zip(prices, budgets))
+    for name, weight in weights.items():
+        covered = sum(fraction(price) for price, budget in zip(prices, budgets) if name in budget.members)
+        total += fraction(series[name].slip) * max(0, abs(fraction(weight)) - covered)
+    return total
+
+
+def is_let_with(series, budgets, errors, shift):
+    apart = {name: abs(fraction(errors[name]) - shift) for name in series.names()}
+    if any(apart[name] > fraction(series[name].slip) for name in apart):
+        return False
+    return all(sum(apart[name] for name in budget.members) <= fraction(budget.most) for budget in budgets)
+
+
+def second_lets(series, budgets, offset, errors):
+    """Whether the errors are let: if some shift does, then the least one does, and some limit is reached there."""
+    shifts = [-fraction(offset)]
+    lots = [((name,), series[name].slip) for name in series.names()]
+    for members, most in [*lots, *((budget.members, budget.most) for budget in budgets)]:
+        for signs in product((1, -1), repeat=len(members)):
+            if sum(signs) != 0:
+                total = sum(sign * fraction(errors[name]) for sign, name in zip(signs, members))
+                shifts.append((total - fraction(most)) / sum(signs))
+    return any(abs(shift) <= fraction(offset) and is_let_with(series, budgets, errors, shift) for shift in shifts)
+
+
+def second_noise_error(series, budgets, offset, question):
+    """The second fact of [49]: the greatest answer at the corners of the worlds, each with its shift, that are let."""
+    target = weights_of(question)
+    if not basic_combinations(series, target, series.names()):
+        return None
+    size = len(target)
+    limits = [((0,) * size + (1,), fraction(offset))]
+    lots = [((name,), series[name].slip) for name in series.names()]
+    for members, most in [*lots, *((budget.members, budget.most) for budget in budgets)]:
+        for signs in product((1, -1), repeat=len(members)):
+            rows = [[sign * weight for weight in weights_of(series[name].question)] for sign, name in zip(signs, members)]
+            limits.append((tuple(sum(column) for column in zip(*rows)) + (-sum(signs),), fraction(most)))
+    # Where the runs leave a direction open, the question does not change along it.
+    for world in silent_worlds([weights[:-1] for weights, _ in limits], size):
+        limits.append((tuple(world) + (0,), Fraction(0)))
+    best = Fraction(0)
+    for chosen in combinations(limits, size + 1):
+        for signs in product((1, -1), repeat=size):
+            ends = [most * sign for (_, most), sign in zip(chosen, (1, *signs))]
+            columns = [[Fraction(weights[place]) for weights, _ in chosen] for place in range(size + 1)]
+            point = solution(columns, ends)
+            if point is not None and all(abs(answer(weights, point)) <= most for weights, most in limits):
+                best = max(best, abs(answer(target, point[:-1])))
+    return best
+
+
+def silent_worlds(rows, size):
+    """Worlds of which all that answer 0 to all rows are sums of multiples."""
+    found = []
+    firsts = {}
+    for row in rows:
+        rest = [Fraction(number) for number in row]
+        for place, other in firsts.items():
+            rest = [one - rest[place] * two for one, two in zip(rest, other)]
+        place = next((at for at in range(size) if rest[at] != 0), None)
+        if place is not None:
+            rest = [number / rest[place] for number in rest]
+            firsts = {at: [one - other[place] * two for one, two in zip(other, rest)] for at, other in firsts.items()}
+            firsts[place] = rest
+    for at in range(size):
+        if at not in firsts:
+            found.append([-firsts[place][at] if place in firsts else Fraction(int(place == at)) for place in range(size)])
+    return found

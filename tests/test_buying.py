@@ -267,6 +267,15 @@ class CheckTest(BuyingCase):
                        (2, ("y", "z", "w")), (2, ("y", "z", None)), (2, ("y", ["z"])), (2, {"y": 1, "z": 1})):
             self.assertFalse(self.told(answer, self.found), answer)
 
+    def test_no_choice_is_good(self):
+        goals = [Goal(A, 0)]
+        found = evidence(EMPTY, OFFER, goals)
+        self.assertTrue(self.passes(EMPTY, OFFER, goals, None, found))
+        for answer in ((0, ()), (5, ("x", "y", "z")), (2, ["y", "z"]), (2, ("z", "y")), (2, ("y", "y", "z")), (2, ("w",)),
+                       (2, "yz"), (2, None), (None, ("x",)), (3, ("y", "z")), (True, ("z",)), (2,), (), [], 0, False, "", {}):
+            self.assertFalse(self.passes(EMPTY, OFFER, goals, answer, found), answer)
+            self.assertFalse(self.passes(EMPTY, OFFER, goals, answer, ()), answer)
+
     def test_a_wrong_total(self):
         for total in (1, 3, 0, -2, 10 ** 20, True, Ratio(2), *NO_INTEGERS):
             self.assertFalse(self.told((total, ("y", "z")), self.found))

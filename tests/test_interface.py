@@ -4,6 +4,8 @@ import inspect
 import unittest
 from importlib import import_module
 
+from anymethod.budgets import Budget, Noise, NoiseBound, NoiseOpen
+from anymethod.desk import Desk
 from anymethod.methods import Combined
 from anymethod.offers import Goal, Offer
 from anymethod.questions import Question
@@ -28,6 +30,11 @@ METHODS = {
     Estimator: ("__call__",),
     Offer: ("total", "series_of", "choices", "__eq__"),
     Goal: ("__eq__",),
+    Desk: ("limit", "tell", "tell_all", "series_now", "readings_now", "journal", "__call__"),
+    Budget: ("__eq__",),
+    NoiseBound: ("__eq__",),
+    NoiseOpen: ("__eq__",),
+    Noise: ("lets", "fits", "price", "least_error", "fooled", "bound", "opened"),
 }
 ARGUMENTS = {
     "ratios": {"Ratio": "(top, bottom=1)", "Ratio.over": "(self, number)", "Ratio.power": "(self, k)",
@@ -65,6 +72,18 @@ ARGUMENTS = {
               "swapped_question": "(question, order)", "pinned": "(series, name, known)"},
     "texts": {"question_text": "(question)", "read_question": "(effects, text)", "run_text": "(run)",
               "read_run": "(effects, text)", "series_text": "(series)", "read_series": "(effects, lines)"},
+    "desk": {"Desk": "(effects)", "Desk.__call__": "(self, line)", "Desk.tell": "(self, line)",
+             "Desk.tell_all": "(self, lines)", "Desk.series_now": "(self)", "Desk.readings_now": "(self)",
+             "Desk.journal": "(self)", "allow": "(desk, number)"},
+    "budgets": {"Budget": "(members, most)", "NoiseBound": "(error, weights, prices)",
+                "NoiseOpen": "(error, world, offset)", "Noise": "(series, *, budgets=(), offset=0)",
+                "Noise.lets": "(self, errors)", "Noise.fits": "(self, world, readings)", "Noise.price": "(self, method)",
+                "Noise.least_error": "(self, question)", "Noise.fooled": "(self, question, method)",
+                "Noise.bound": "(self, question)", "Noise.opened": "(self, question)",
+                "check_noise_bound": "(noise, question, candidate)", "check_noise_open": "(noise, question, candidate)"},
+    "courses": {"played": "(offer, course, world, *, errors=None)", "bare": "(offer, course)",
+                "fooled_course": "(offer, question, course, method)", "best_of": "(offer, question, count)"},
+    "heard": {"heard": "(series)", "unheard": "(series)", "told_at_all": "(series, question)"},
 }
 
 
@@ -99,6 +118,10 @@ class InterfaceTest(unittest.TestCase):
         self.assertLessEqual({"question", "wild"}, set(vars(Estimator(Series(("a",)), question))))
         self.assertEqual(set(vars(Offer(("a",), [("x", Run(question, 1), 1)]))), {"effects", "rows"})
         self.assertEqual(set(vars(Goal(question, 1))), {"question", "error", "wild"})
+        self.assertEqual(set(vars(Budget(("x",), 1))), {"members", "most"})
+        self.assertEqual(set(vars(NoiseBound(1, {}, ()))), {"error", "weights", "prices"})
+        self.assertEqual(set(vars(NoiseOpen(1, (), 0))), {"error", "world", "offset"})
+        self.assertLessEqual({"effects", "budgets", "offset"}, set(vars(Noise(Series(("a",))))))
 
 
 if __name__ == "__main__":

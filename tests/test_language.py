@@ -117,6 +117,53 @@ class LanguageTest(unittest.TestCase):
             used = {node.id for node in ast.walk(tree) if isinstance(node, ast.Name) and isinstance(node.ctx, ast.Load)}
             self.assertEqual((used & set(dir(builtins))) - BUILTINS_IN_USE, set(), path.name)
 
+    def test_each_import_is_used_and_no_name_hides_it(self):
+        for path, _, tree in self.each():
+            imported = {alias.name for node in tree.body if isinstance(node, ast.ImportFrom) for alias in node.names}
+            used = {node.id for node in ast.walk(tree) if isinstance(node, ast.Name) and isinstance(node.ctx, ast.Load)}
+            self.assertEqual(imported - used, set(), path.name)
+            classes = {node.name for node in tree.body if isinstance(node, ast.ClassDef)}
+            local = {node.arg for node in ast.walk(tree) if isinstance(node, ast.arg)}
+            local |= {node.id for node in ast.walk(tree) if isinstance(node, ast.Name) and isinstance(node.ctx, ast.Store)}
+            self.assertEqual(local & (imported | classes), set(), path.name)
+
+    def test_no_two_files_import_from_each_other(self):
+        below = {}
+        for path, _, tree in self.each():
+            below[path.stem] = {node.module.rpartition(".")[2] for node in tree.body if isinstance(node, ast.ImportFrom)}
+        left = dict(below)
+        while left:
+            free = [name for name in left if not left[name] & set(left)]
+            self.assertNotEqual(free, [], left)
+            for name in free:
+                del left[name]
+
+    def test_no_name_is_a_method_and_an_attribute(self):
+        methods, stored, properties, generators = set(), set(), set(), []
+        for _, _, tree in self.each():
+            for node in ast.walk(tree):
+                if isinstance(node, ast.ClassDef):
+                    for row in node.body:
+                        if isinstance(row, ast.FunctionDef):
+                            properties |= {row.name} if row.decorator_list else set()
+                            methods.add(row.name)
+                if isinstance(node, ast.Attribute) and isinstance(node.ctx, ast.Store):
+                    stored.add(node.attr)
+                if isinstance(node, ast.FunctionDef) and any(isinstance(each, (ast.Yield, ast.YieldFrom))
+                                                             for each in ast.walk(node)):
+                    generators.append(node.name)
+        self.assertEqual(methods & stored - properties, set())
+        self.assertEqual(generators, ["choices"])
+
+    def test_only_plain_things_are_sorted(self):
+        """Ratios and series are compared in a way that sorted, min and max are not to rely on."""
+        for path, _, tree in self.each():
+            for node in ast.walk(tree):
+                if isinstance(node, ast.Call) and getattr(node.func, "id", None) == "sorted":
+                    given = node.args[0].args[0] if isinstance(node.args[0], ast.Call) else node.args[0]
+                    self.assertIsInstance(given, ast.ListComp, path.name)
+                    self.assertIn(getattr(given.elt.func, "id", None), ("str", "int"), path.name)
+
     def test_no_generator_expression_where_a_list_is_due(self):
         for path, _, tree in self.each():
             for node in ast.walk(tree):
